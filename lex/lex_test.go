@@ -360,8 +360,9 @@ func TestArity(t *testing.T) {
 	for s, want := range map[string]int{
 		"": -1, "a": 0, "Z9": 0, "9Z": -1, "a b": -1, " a": -1, "a ": -1, "a_": -1, "true": 0, "nil": 0, "self": 0, "\xff": -1, "a\xff": -1,
 		"+": 1, "-": 1, "|": 1, "||": -1, "+-": -1, "-+": 1, "--": -1, "<=": 1, "<=>": -1, "|+": -1, "+|": -1, "!": -1, "+ ": -1, "^": -1, ":=": -1, ".": -1, "#": -1, "#a": -1, "'a'": -1, "(": -1, "?%": 1, "~~": 1, "\\\\": 1,
-		"a:": 1, "a:b:": 2, "a:b": -1, ":": -1, "::": -1, "a::": -1, ":a:": -1, "a:1:": -1, "a: ": -1, "a: b:": -1, "a:+": -1, "a:=": -1, "+:": -1, "a:b:c:d:e:f:g:h:i:j:k:l:m:": 13, strings.Repeat("at:", 9999): 9999,
-		named(64): 0, named(65): 0, named(65) + ":b:": 2,
+		"a:": 1, "a:b:": 2, "a:b": -1, ":": -1, "::": -1, "a::": -1, ":a:": -1, "a:1:": -1, "a: ": -1, "a: b:": -1, "a:+": -1, "a:=": -1, "+:": -1, "a:b:c:d:e:f:g:h:i:j:k:l:m:": 13,
+		named(64): 0, named(65): -1, named(63) + ":": 1, named(64) + ":": -1, named(65) + ":": -1, named(61) + ":b:": 2, named(62) + ":b:": -1, "a:" + named(61) + ":": 2, "a:" + named(62) + ":": -1, named(65) + ":b:": -1, "a:" + named(65) + ":": -1,
+		strings.Repeat("a:", 32): 32, strings.Repeat("a:", 33): -1, strings.Repeat("at:", 21): 21, strings.Repeat("at:", 22): -1, strings.Repeat("at:", 9999): -1, named(9999): -1,
 	} {
 		if got := Arity(s); got != want {
 			t.Errorf("P9.3: Arity(%.90q) = %d, want %d", s, got, want)
@@ -369,13 +370,33 @@ func TestArity(t *testing.T) {
 	}
 }
 
+// A message's name is just what # and it are a Symbol of, without quotes.
 func TestArityModel(t *testing.T) {
 	r := rand.New(rand.NewSource(999))
-	for range 200000 {
-		s := chance(r, 6)
-		if got, want := Arity(s), modelArity(s); got != want {
-			t.Fatalf("P9.3: Arity(%q) = %d, want %d", s, got, want)
+	check := func(s string) {
+		t.Helper()
+		got, want := Arity(s), modelArity(s)
+		x, behind, e := Next("#"+s, 0)
+		isRead := e == api.OK && x == Token{Kind: Symbol, Word: s} && behind == len(s)+1
+		if got != want || got >= 0 != isRead {
+			t.Fatalf("P9.3: Arity(%q) = %d, want %d; as a Symbol it is %v, %d", s, got, want, x, e)
 		}
+	}
+	for range 200000 {
+		check(chance(r, 6))
+	}
+	// Names of which the last bytes are about where it is too long.
+	counts := map[bool]int{}
+	for range 20000 {
+		var s string
+		for size := 58 + r.Intn(10); len(s) < size; {
+			s += named(1+r.Intn(min(size-len(s), 40))) + []string{":", ":", ""}[r.Intn(3)]
+		}
+		check(s)
+		counts[Arity(s) < 0]++
+	}
+	if counts[true] < 1000 || counts[false] < 1000 {
+		t.Errorf("P9.3: names about the limit: %v", counts)
 	}
 }
 

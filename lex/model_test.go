@@ -139,6 +139,8 @@ func modelSpellable(t Token) bool {
 // modelArity: of a message's name.
 func modelArity(s string) int {
 	switch {
+	case len(s) > 64:
+		return -1
 	case formName.MatchString(s):
 		return 0
 	case formOp.MatchString(s):

@@ -68,7 +68,7 @@ func isMethod(m Method) bool {
 }
 
 // isName: one that a variable may have?
-func isName(s string) bool { return lex.Arity(s) == 0 && len(s) <= api.MaxName }
+func isName(s string) bool { return lex.Arity(s) == 0 }
 
 // areStatements: values, of which the last one may be returned?
 func areStatements(list []Node) bool {

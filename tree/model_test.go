@@ -73,6 +73,8 @@ var (
 // modelArity: of a message's name.
 func modelArity(s string) int {
 	switch {
+	case len(s) > 64:
+		return -1
 	case formName.MatchString(s):
 		return 0
 	case formOp.MatchString(s):
@@ -194,8 +196,11 @@ func someNames(r *rand.Rand) []string {
 	return out
 }
 
+// longest: a message's name that ends so, of just as many bytes as one may have.
+func longest(end string) string { return strings.Repeat("n", 64-len(end)) + end }
+
 func someMessage(r *rand.Rand) string {
-	return pick(r, "foo", "x", "+", "-", "|", "->", "<=", "at:", "at:put:", "a:b:c:", "value")
+	return pick(r, "foo", "x", "+", "-", "|", "->", "<=", "at:", "at:put:", "a:b:c:", "value", longest(""), longest(":"), longest(":k:"))
 }
 
 func someText(r *rand.Rand) string {
@@ -332,6 +337,10 @@ func spoil(r *rand.Rand, n *Node) {
 	case 0:
 		n.Kind = r.Intn(14) - 1
 	case 1:
+		if n.Kind == Send && r.Intn(2) == 0 {
+			n.Name = pick(r, "n", "n:", "k:") + n.Name
+			return
+		}
 		n.Name = pick(r, "", "a", "1a", "at:", "at:put:", "+", "nil", "true", "a b", strings.Repeat("n", 64), strings.Repeat("n", 65), strings.Repeat("x", 4096), strings.Repeat("x", 4097))
 	case 2:
 		n.Num = pick[int64](r, 0, 1, -1, 2, 3, 1<<62, -1<<62, 1<<62-1, 1-1<<62, 1<<63-1, -1<<63)

@@ -42,7 +42,7 @@ func TestKinds(t *testing.T) {
 	}
 }
 
-// checkCheck: is this what is told of a method, and no text of a wrong one?
+// checkCheck: is this what is told of a method, with a text of tokens, or no text of a wrong one?
 func checkCheck(t *testing.T, m Method, want api.Errno) {
 	t.Helper()
 	if got := Check(m); got != want {
@@ -51,6 +51,9 @@ func checkCheck(t *testing.T, m Method, want api.Errno) {
 	s, e := Print(m)
 	if e != want || e != api.OK && s != "" {
 		t.Errorf("P10.3: Print(%.300v) = %.90q, %d, want %d", m, s, e, want)
+	}
+	if _, at, e := lex.All(s); e != api.OK {
+		t.Errorf("P10.3: Print(%.300v) = %.90q, in which at %d is %d", m, s, at, e)
 	}
 }
 
@@ -195,7 +198,10 @@ func TestNames(t *testing.T) {
 	for prim, want := range map[int]api.Errno{-1: api.ErrForm, 0: 0, 1: 0, 999: 0, 1000: api.ErrForm, math.MaxInt: api.ErrForm, math.MinInt: api.ErrForm} {
 		checkCheck(t, Method{Name: "foo", Prim: prim}, want)
 	}
-	arities := map[string]int{"foo": 0, "+": 1, "|": 1, "a:": 1, "a:b:": 2, "": -1, "a:b": -1, "+-": -1, ":": -1, "1": -1, "foo ": -1}
+	arities := map[string]int{
+		"foo": 0, "+": 1, "|": 1, "a:": 1, "a:b:": 2, "": -1, "a:b": -1, "+-": -1, ":": -1, "1": -1, "foo ": -1,
+		long: 0, long + "n": -1, long[1:] + ":": 1, long + ":": -1, long[3:] + ":b:": 2, long[2:] + ":b:": -1, "a:" + long[3:] + ":": 2, "a:" + long[2:] + ":": -1, "a:b:" + long + ":": -1,
+	}
 	for name, arity := range arities {
 		for count := range 4 {
 			want := api.ErrForm
@@ -203,7 +209,10 @@ func TestNames(t *testing.T) {
 				want = api.OK
 			}
 			checkCheck(t, Method{Name: name, Params: []string{"x", "y", "z"}[:count]}, want)
-			checkCheck(t, body(send(name, []Node{num(1), num(2), num(3), num(4)}[:count+1]...)), want)
+			kids := []Node{num(1), num(2), num(3), num(4)}[:count+1]
+			checkCheck(t, body(send(name, kids...)), want)
+			checkCheck(t, body(cascade(send(name, kids...), further("bar"))), want)
+			checkCheck(t, body(cascade(send("foo", num(1)), further(name, kids[1:]...))), want)
 		}
 	}
 }
@@ -269,7 +278,7 @@ func TestCheckModel(t *testing.T) {
 		}
 		switch r.Intn(40) {
 		case 0:
-			m.Name = someMessage(r)
+			m.Name = pick(r, "", "n") + someMessage(r)
 		case 1:
 			m.Params = someNames(r)
 		case 2:
@@ -564,11 +573,12 @@ func TestGreat(t *testing.T) {
 		m.Body[0].Kids[len(m.Body[0].Kids)-1].Num = 1
 		checkGreat(t, m, 1<<16, api.ErrForm)
 	}
-	m := body(Node{Kind: Send, Name: strings.Repeat("a:", 1<<16), Kids: make([]Node, 1<<16+1)})
-	for i := range m.Body[0].Kids {
-		m.Body[0].Kids[i].Kind = Int
-	}
-	checkGreat(t, m, 2, api.OK)
+	many := slices.Repeat([]Node{num(1)}, 1<<16+1)
+	checkGreat(t, body(many...), 1, api.OK)
+	checkGreat(t, body(list(many...)), 2, api.OK)
+	checkGreat(t, body(send(strings.Repeat("a:", 32), many[:33]...)), 2, api.OK)
+	checkGreat(t, body(send(strings.Repeat("a:", 1<<16), many...)), 2, api.ErrForm)
+	checkGreat(t, body(send(strings.Repeat("a", 1<<20), num(1))), 2, api.ErrForm)
 }
 
 func checkGreat(t *testing.T, m Method, depth int, e api.Errno) {
