@@ -177,8 +177,8 @@ func modelWrong(s string) (int, api.Errno) {
 		if e != api.OK {
 			return behind, e
 		}
-		next, place, e := lex.Next(s, behind)
-		numbered := next.Kind == lex.Int && next.At == behind || e == api.ErrOver && place == behind
+		next, _, _ := lex.Next(s, behind)
+		numbered := next.Kind == lex.Int && next.At == behind
 		if !g.step(wordsOf(t, numbered)) {
 			return t.At, api.ErrForm
 		}

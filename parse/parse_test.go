@@ -128,7 +128,7 @@ func TestArrays(t *testing.T) {
 // What may not stand where it does, behind "foo ".
 func TestWrongTokens(t *testing.T) {
 	for s, at := range map[string]int{
-		"-": 4, "- 3": 4, "-x": 4, "--3": 4, "-\"\"3": 4, "-'a'": 4, "-(3)": 4, "- ": 4, "x + - 3": 8, "x + -y": 8, "x a: - 3": 9, "^- 3": 5, "^-x": 5, "(- 3": 5, "x := - 3": 9, "[- 3]": 5, "[:a | - 3]": 10, "x. - 3": 7, "3 - - 4": 8, "3 --": 7, "-!": 4, "-'": 4, "-$": 4, "-\"": 4, "x + -#": 8, "- 99999999999999999999": 4, "-\n99999999999999999999": 4,
+		"-": 4, "- 3": 4, "-x": 4, "--3": 4, "-\"\"3": 4, "-'a'": 4, "-(3)": 4, "- ": 4, "x + - 3": 8, "x + -y": 8, "x a: - 3": 9, "^- 3": 5, "^-x": 5, "(- 3": 5, "x := - 3": 9, "[- 3]": 5, "[:a | - 3]": 10, "x. - 3": 7, "3 - - 4": 8, "3 --": 7, "-!": 4, "-'": 4, "-$": 4, "-\"": 4, "x + -#": 8, "- 99999999999999999999": 4, "-\n99999999999999999999": 4, "-99999999999999999999": 4, "^-4611686018427387904": 5, "x. -4611686018427387904": 7, "3 - -4611686018427387904": 8, "3 --4611686018427387904": 7, "(-4611686018427387904)": 5, "x := -4611686018427387904": 9, "x a: -99999999999999999999": 9, "x foo; + -99999999999999999999": 13, "[:a | -99999999999999999999": 10,
 		";": 4, "x; foo": 5, "3; foo": 5, "[x]; foo": 7, "(x foo); bar": 11, "(x + y); bar": 11, "(x foo; bar); baz": 16, "((x foo)); bar": 13, "x := y; foo": 10, "x := (y foo); bar": 16, "(x a: 3); bar": 12, "#(1); foo": 8, "^x; foo": 6, "x foo; (y)": 11, "x foo;": 10, "x foo; ; bar": 11, "x foo; 3": 11, "x foo;.": 10, "x foo; ^": 11, "x foo; +": 12, "x foo; a:": 13, "x foo; bar baz": 15, "x foo; + y + z": 15, "x foo; + y a: z": 15, "x foo; bar + y": 15, "x foo; bar a: y": 15, "x foo; bar 3": 15, "x foo; a: y; ; z": 17,
 		".": 4, "x..": 6, "x. .": 7, "x . . y": 8, ". x": 4, "x. 3 4": 9, "^": 5, "^.": 5, "^^x": 5, "^x. y": 8, "^x. ^y": 8, "^x..": 7, "^x y: ": 10, "^x ^y": 7, "x ^y": 6, "x. ^y. z": 11, "^x. .": 8, "(^x)": 5, "x := ^y": 9, "x a: ^y": 9, "x + ^y": 8,
 		"x := ": 9, "x :=": 8, "x := := y": 9, "x := .": 9, "(x) := 3": 8, "3 := x": 6, "x foo := 3": 10, "x + y := 3": 10, "x a: y := 3": 11, "#a := 3": 7, "x := y := ": 14, "x foo: (y := ": 17, "x := 3 := 4": 11,
@@ -148,7 +148,7 @@ func TestLexErrors(t *testing.T) {
 		e  api.Errno
 	}{
 		{"!", 0, api.ErrForm}, {"'", 0, api.ErrEnd}, {"\"", 0, api.ErrEnd}, {" $", 1, api.ErrEnd}, {"99999999999999999999", 0, api.ErrOver}, {name, 0, api.ErrSize}, {"foo: " + name, 5, api.ErrSize}, {"foo !", 4, api.ErrForm}, {"foo 'a", 4, api.ErrEnd}, {"foo x \"n", 6, api.ErrEnd}, {"foo ^x. $", 8, api.ErrEnd},
-		{"foo 4611686018427387904", 4, api.ErrOver}, {"foo -4611686018427387904", 5, api.ErrOver}, {"foo ^-4611686018427387904", 6, api.ErrOver}, {"foo 3 -4611686018427387904", 7, api.ErrOver}, {"foo #(-4611686018427387904)", 7, api.ErrOver}, {"foo #(- 4611686018427387904)", 8, api.ErrOver}, {"foo x a: -99999999999999999999", 10, api.ErrOver}, {"foo #(-!", 7, api.ErrForm}, {"foo #(-'a", 7, api.ErrEnd}, {"foo 3 -'a", 7, api.ErrEnd},
+		{"foo 4611686018427387904", 4, api.ErrOver}, {"foo 3 - 4611686018427387904", 8, api.ErrOver}, {"foo x foo; -4611686018427387904", 12, api.ErrOver}, {"foo #(-4611686018427387903 -4611686018427387904)", 28, api.ErrOver}, {"foo 3 -4611686018427387904", 7, api.ErrOver}, {"foo #(-4611686018427387904)", 7, api.ErrOver}, {"foo #(- 4611686018427387904)", 8, api.ErrOver}, {"foo #(-!", 7, api.ErrForm}, {"foo #(-'a", 7, api.ErrEnd}, {"foo 3 -'a", 7, api.ErrEnd},
 		{"foo " + long, 4, api.ErrSize}, {"foo #(" + long + ")", 6, api.ErrSize}, {"foo x " + name + ": 3", 6, api.ErrSize}, {"foo #" + name, 4, api.ErrSize}, {"foo <primitive: 99999999999999999999>", 16, api.ErrOver}, {"foo | a !", 8, api.ErrForm}, {"foo [:a !", 8, api.ErrForm}, {"foo x !", 6, api.ErrForm}, {"foo x := !", 9, api.ErrForm}, {"foo x foo; !", 11, api.ErrForm}, {"foo x\x00", 5, api.ErrForm}, {"foo \xff", 4, api.ErrForm}, {"foo x_y", 5, api.ErrForm}, {"foo {", 4, api.ErrForm}, {"foo #", 4, api.ErrForm}, {"foo (x '", 7, api.ErrEnd},
 		{"3 '", 0, api.ErrForm}, {"foo x; '", 5, api.ErrForm}, {"foo <primitive: 0 '", 16, api.ErrForm}, {"foo ^x. y '", 8, api.ErrForm}, {"foo [:a x '", 8, api.ErrForm}, {"foo ) $", 4, api.ErrForm}, {"foo - '", 4, api.ErrForm}, {"foo x 3 !", 6, api.ErrForm}, {"foo x. . '", 7, api.ErrForm}, {"foo ' ) '!", 9, api.ErrForm},
 	} {
@@ -212,7 +212,7 @@ func TestDeep(t *testing.T) {
 		at int
 	}{
 		{"foo " + nest(40, "(", "x", ")"), 44}, {"foo " + nest(60, "( ", "x", ")"), 84}, {"foo " + nest(40, "(", "-3", ")"), 44}, {"foo " + nest(40, "(", "#()", ")"), 44}, {"foo " + nest(41, "[", "", "]"), 44}, {"foo " + nest(40, "[", "x", "]"), 44}, {"foo " + nest(40, "[", "^x", "]"), 45}, {"foo " + nest(40, "[:a|", "x", "]"), 164}, {"foo " + nest(40, "x:=", "y", ""), 124}, {"foo " + nest(41, "x:=", "y", ""), 124}, {"foo ^" + nest(40, "(", "x", ")"), 45}, {"foo " + nest(40, "x+(", "x foo", ")"), 124}, {"foo " + nest(20, "(x:=", "[x]", ")"), 84},
-		{"foo " + nest(39, "(", "#(", ")"), 43}, {"foo " + nest(39, "(", "x a: #(", ")"), 48}, {"foo #" + nest(40, "(", "", ")"), 44}, {"foo #" + nest(41, "(", "", ")"), 44}, {"foo " + nest(40, "#(", "", ")"), 82}, {"foo x a: #" + nest(40, "(", "", ")"), 49}, {"foo [x := #" + nest(38, "(", "", ")"), 48}, {"foo " + nest(40, "(", "-99999999999999999999", ")"), 44}, {"foo " + nest(39, "(", "x. !", ")"), 44},
+		{"foo " + nest(39, "(", "#(", ")"), 43}, {"foo " + nest(39, "(", "x a: #(", ")"), 48}, {"foo #" + nest(40, "(", "", ")"), 44}, {"foo #" + nest(41, "(", "", ")"), 44}, {"foo " + nest(40, "#(", "", ")"), 82}, {"foo x a: #" + nest(40, "(", "", ")"), 49}, {"foo [x := #" + nest(38, "(", "", ")"), 48}, {"foo " + nest(39, "(", "x. !", ")"), 44},
 	} {
 		e := api.ErrDeep
 		if strings.Contains(c.s, "!") {
@@ -227,7 +227,7 @@ func TestDeep(t *testing.T) {
 	checkMethod(t, "foo #"+nest(39, "(", "", ")"), body(arrays))
 	checkMethod(t, "foo "+nest(38, "(", "#(1)", ")"), body(list(num(1))))
 	// Behind 40 that have begun, what begins none isn't too deep: it may not stand there, or lex tells.
-	for within, e := range map[string]api.Errno{"": api.ErrForm, ")": api.ErrForm, "]": api.ErrForm, "- 3": api.ErrForm, "-": api.ErrForm, ".": api.ErrForm, "^x": api.ErrForm, "+": api.ErrForm, "a:": api.ErrForm, "'": api.ErrEnd, "!": api.ErrForm, "99999999999999999999": api.ErrOver, "x": api.ErrDeep, "'a'": api.ErrDeep} {
+	for within, e := range map[string]api.Errno{"": api.ErrForm, ")": api.ErrForm, "]": api.ErrForm, "- 3": api.ErrForm, "-": api.ErrForm, "-99999999999999999999": api.ErrForm, ".": api.ErrForm, "^x": api.ErrForm, "+": api.ErrForm, "a:": api.ErrForm, "'": api.ErrEnd, "!": api.ErrForm, "99999999999999999999": api.ErrOver, "x": api.ErrDeep, "'a'": api.ErrDeep} {
 		checkWrong(t, "foo "+nest(40, "(", within, ""), 44, e)
 	}
 	// What has ended doesn't count.
