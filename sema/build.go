@@ -133,16 +133,16 @@ func (b *builder) way(c *class) []*class {
 	return list
 }
 
-// kind: of the next kernel class up that has one, also where that isn't there.
+// kind: that of the next kernel class up. It is the table's, also where that class isn't there, or is otherwise.
 func (b *builder) kind(c *class) int {
 	way := b.way(c)
 	for _, one := range way {
-		if kind, isOwn := ownKind(one.Name); isOwn {
-			return kind
+		if r, isKernel := kernelRow(one.Name); isKernel {
+			return r.kindAsItComes()
 		}
 	}
-	kind, _ := ownKind(way[len(way)-1].Super)
-	return kind
+	missing, _ := kernelRow(way[len(way)-1].Super)
+	return missing.kindAsItComes()
 }
 
 // cycles: ways up that don't end.

@@ -44,13 +44,12 @@ func kernelRow(name string) (r row, isKernel bool) {
 	return row{}, false
 }
 
-// ownKind: that of a kernel class, if it doesn't come from above.
-func ownKind(name string) (kind int, isOwn bool) {
-	r, isKernel := kernelRow(name)
-	if !isKernel || r.kind == inherited {
-		return 0, false
+// kindAsItComes: its own, or that of the next row up that has one.
+func (r row) kindAsItComes() int {
+	for r.kind == inherited {
+		r, _ = kernelRow(r.super)
 	}
-	return r.kind, true
+	return r.kind
 }
 
 // own: its fields.

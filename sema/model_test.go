@@ -117,14 +117,18 @@ func (m *model) two() {
 	}
 }
 
-// kind: going up, as far as it goes.
+// kind: going up, as far as it goes, by the files to a class of the kernel, from there by the table.
 func (m *model) kind(name string) int {
 	for range 1000 {
-		if _, _, kind, _ := must(name); kind == "0" || kind == "1" || kind == "2" {
+		number, super, kind, _ := must(name)
+		if kind == "0" || kind == "1" || kind == "2" {
 			return int(kind[0] - '0')
 		}
-		c, _ := m.class(name)
-		name = c.Super
+		if number < 0 {
+			c, _ := m.class(name)
+			super = c.Super
+		}
+		name = super
 	}
 	return 0
 }

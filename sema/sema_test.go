@@ -312,42 +312,78 @@ func TestSupers(t *testing.T) {
 	refused(t, lacking("Semaphore", "Message"), append(parts[:14], one("<None>", "A", "Message", "a")+one("", "B", "B", "b b1"))...)
 }
 
-// Below a class of the kernel that isn't just so the Kind comes from above all the same.
+// Below a class of the kernel that isn't just so the Kind is that of the table all the same.
 func TestKindOfWrong(t *testing.T) {
-	const text, process = 7, 13
-	refused(t, nil, append(replaced(process, one("<Kind>", "Process", "Array", "context priority next list")), one("<Kind>", "A", "Process", "a"))...)
+	const text, symbol, process = 7, 8, 13
+	refused(t, nil, append(replaced(process, one("<Kind>", "Process", "Array", "context priority next list")), one("", "A", "Process", "a"))...)
 	refused(t, nil, append(replaced(process, one("<Kind>", "Process", "Object", "context")), one("", "A", "Process", "a"))...)
+	refused(t, nil, append(replaced(symbol, one("<Kind>", "Symbol", "Object", "")), one("<Kind>", "A", "Symbol", ""), one("<Kind>", "B", "A", "b"))...)
 	refused(t, nil, append(replaced(text, one("<Kind>", "String", "Array", "")), one("<Kind>", "A", "String", "a"), one("", "B", "B", "b"), one("<None>", "C", "None", "c"))...)
 	refused(t, nil, append(replaced(0, one("<Kind>", "Object", "String", "")), one("", "A", "Object", "a"), one("<Kind>", "B", "String", "b"))...)
 	refused(t, nil, append(replaced(process, one("<Kind>", "Process", "A", "context priority next list")), one("", "A", "Process", "a"))...)
 }
 
-// Which classes of the kernel have a Kind of their own, as they stand where another one would come from above.
-func TestOwnKinds(t *testing.T) {
+// kindMark: of a class with fields somewhere below one of the kernel.
+func kindMark(c Class) string {
+	if c.Kind == 0 {
+		return ""
+	}
+	return "<Kind>"
+}
+
+// Each class of the kernel, as it stands where from above another Kind would come.
+func TestKindBelowMoved(t *testing.T) {
 	for n, c := range Kernel() {
-		up, mark := "Array", "<Kind>"
-		if c.Name == "Array" {
+		up := "Array"
+		if c.Kind == 1 {
 			up = "String"
-		}
-		if c.Name == "Object" {
-			mark = ""
 		}
 		below := "<Kind>"
 		if strings.Contains(" Object String Array Process Semaphore Message ", " "+c.Name+" ") {
 			below = ""
 		}
-		refused(t, nil, append(replaced(n, one("<Kind>", c.Name, up, strings.Join(c.Own, " "))), one(below, "A", c.Name, "")+one(mark, "B", "A", "b"))...)
-		// The same where it isn't there at all.
-		gone := replaced(n, "")
-		for k, part := range gone {
-			if strings.HasPrefix(part, c.Name+" ") {
-				gone[k] = "<None>" + part
+		moved := func(up string) []string {
+			return replaced(n, one("<Kind>", c.Name, up, strings.Join(c.Own, " ")))
+		}
+		refused(t, nil, append(moved(up), one(below, "A", c.Name, "")+one(kindMark(c), "B", "A", "b"))...)
+		if c.Kind != 0 && c.Super != "Object" {
+			refused(t, nil, append(moved("Object"), one(below, "A", c.Name, "")+one(kindMark(c), "B", "A", "b"))...)
+		}
+	}
+}
+
+// missing: the kernel without a class, whose other classes below it tell so.
+func missing(n int, name string) []string {
+	gone := replaced(n, "")
+	for k, part := range gone {
+		if strings.HasPrefix(part, name+" ") {
+			gone[k] = "<None>" + part
+		}
+	}
+	return gone
+}
+
+// Each class of the kernel missing, by itself and with all others: what stands one below it, with fields or without, lacks its Super, and what has fields further below has the Kind that the table says.
+func TestKindBelowMissing(t *testing.T) {
+	var all []string
+	for _, c := range Kernel() {
+		all = append(all, c.Name)
+	}
+	for n, c := range Kernel() {
+		for _, fields := range []string{"", "a", "a b"} {
+			mark := kindMark(c)
+			for _, below := range []string{
+				one("<None>", "A", c.Name, fields),
+				one("<None>", "A", c.Name, fields) + one(mark, "B", "A", "x"),
+				one("<None>", "A", c.Name, fields) + one("", "B", "A", ""),
+				one("<None>", "A", c.Name, fields) + one("", "B", "A", "") + one(mark, "C", "B", "x y"),
+				one(mark, "B", "A", "x") + one("<None>", "A", c.Name, fields),
+			} {
+				refused(t, lacking(c.Name), append(missing(n, c.Name), below)...)
+				refused(t, lacking(all...), below)
+				refused(t, lacking(all...), below+"t methods! !")
 			}
 		}
-		if c.Kind == 0 || c.Name == "Symbol" {
-			mark = ""
-		}
-		refused(t, lacking(c.Name), append(gone, one("<None>", "A", c.Name, "")+one(mark, "B", "A", "b"))...)
 	}
 }
 
