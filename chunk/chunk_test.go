@@ -351,6 +351,61 @@ func TestWriteSize(t *testing.T) {
 	checkRefused(t, classes(Class{"A", "B", append(strings.Fields(strings.Repeat("aaa ", 1023)), "aaaaa"), 0}), api.ErrSize)
 }
 
+// fieldsOfBytes: names that fill so many bytes together, with the blanks between, from a first one on.
+func fieldsOfBytes(first string, n int) []string {
+	list := []string{first}
+	for n -= len(first); n > 0; {
+		name := strings.Repeat("a", min(64, max(1, n-1)))
+		if left := n - 1 - len(name); left == 1 { // a blank alone would be left
+			name = name[1:]
+		}
+		list = append(list, name)
+		n -= 1 + len(name)
+	}
+	return list
+}
+
+// A name that is none is ErrForm wherever it stands, as long as the file isn't too great, however much the fields fill.
+func TestWriteFormAmongLongFields(t *testing.T) {
+	around := len("B subclass: #A fields: ''!\n" + "C methods!\n" + "x!\n" + " !\n")
+	for _, n := range []int{100, 4095, 4096, 4097, 4098, 8192, 65536 - around - 1, 65536 - around, 65536 - around + 1, 70000} {
+		good := Unit{[]Class{{"A", "B", fieldsOfBytes("a", n), 0}}, []Source{{"C", false, "x", 0}}}
+		if got := len(strings.Join(good.Classes[0].Fields, " ")); got != n {
+			t.Fatalf("fields of %d bytes, want %d", got, n)
+		}
+		if n <= 4096 {
+			checkBack(t, good)
+		} else {
+			checkRefused(t, good, api.ErrSize)
+		}
+		want := api.ErrForm
+		if n > 65536-around {
+			want = api.ErrSize
+		}
+		for at := range 7 {
+			bad := Unit{[]Class{{"A", "B", slices.Clone(good.Classes[0].Fields), 0}}, slices.Clone(good.Sources)}
+			c, s := &bad.Classes[0], &bad.Sources[0]
+			switch at { // each with as many bytes as ahead
+			case 0:
+				c.Name = "1"
+			case 1:
+				c.Super = "+"
+			case 2:
+				c.Fields[0] = "1"
+			case 3:
+				c.Fields[len(c.Fields)-1] = "1" + c.Fields[len(c.Fields)-1][1:]
+			case 4:
+				s.Class = "!"
+			case 5:
+				s.Text = " "
+			case 6:
+				c.Fields = []string{strings.Repeat("a", n)}
+			}
+			checkRefused(t, bad, want)
+		}
+	}
+}
+
 func TestWriteModel(t *testing.T) {
 	r := rand.New(rand.NewSource(122))
 	told := map[api.Errno]int{}
