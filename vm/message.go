@@ -25,7 +25,7 @@ func (c *call) ask(args ...api.Word) int {
 	if !c.isOf(name, sound.SymbolClass) || lex.Arity(c.text(name)) != len(args) {
 		return failed
 	}
-	c.asked = message{name, slices.Concat(c.list[:1], args)}
+	c.asked = c.toOwn(name, slices.Concat(c.list[:1], args))
 	return asks
 }
 

@@ -338,6 +338,43 @@ func TestEndless(t *testing.T) {
 	}
 }
 
+// A message that asks for itself word by word, but by super: its method is asked for in the class above, that of what it asks for in the receiver's own.
+func TestAskedBehindSuper(t *testing.T) {
+	const above = "Object subclass: #A fields: ''! A methods! p: a with: b <primitive: 33> ^'above' out! q: a with: b <primitive: 33> ^'above' out! ! A subclass: #B fields: ''! "
+	const lists = "go | a b | a := Array new: 2. b := Array new: 2. a at: 1 put: #p:with:; at: 2 put: a. "
+	const ring = "b at: 1 put: #q:with:; at: 2 put: a. a at: 2 put: b. "
+	const plain = "p: a with: b ('below', a) out. ^7! "
+	const asks = "p: a with: b <primitive: 33> ^'below' out! "
+	const failing = "p: a with: b <primitive: 84> ^(b == a) ifTrue: ['same'] ifFalse: ['below' out]! "
+	for _, x := range []struct {
+		text, want string
+		end        int
+	}{
+		{above + "B methods! " + plain + lists + "(super p: #p:with: with: a) digits out. (super p: #p:with: with: a) digits out! !", "belowp:with: / 7 / belowp:with: / 7", Done},
+		{above + "B methods! " + plain + lists + "[(super p: #p:with: with: a) digits out] value! !", "belowp:with: / 7", Done},
+		{above + "B methods! " + failing + lists + "super p: #p:with: with: a. 'end' out! !", "below / end", Done},
+		{above + "B methods! " + plain + lists + ring + "(super p: #q:with: with: b) digits out. 'end' out! !", "belowq:with: / 7 / end", Done},
+		{above + "B methods! " + plain + lists + ring + "(super q: #p:with: with: a) digits out. 'end' out! !", "belowp:with: / 7 / end", Done},
+		{above + "B methods! " + plain + lists + "super perform: #p:with: with: #p:with: with: a. 'end' out! !", "belowp:with: / end", Done},
+		{above + "B methods! " + asks + lists + "'x' out. super p: #p:with: with: a. 'never' out! !", "x", Running},
+		{above + "B methods! " + lists + "'x' out. super p: #p:with: with: a. 'never' out! !", "x", Running},
+		{above + "B methods! " + asks + lists + ring + "'x' out. super p: #q:with: with: b. 'never' out! !", "x", Running},
+		{above + "B subclass: #C fields: ''! C methods! p: a with: b super p: a with: b. ^'never' out! ! B methods! " + asks + lists + "'x' out. super p: #p:with: with: a. 'end' out! ! UndefinedObject methods! start C new go! !", "x", Running},
+	} {
+		files := []string{x.text}
+		if !strings.Contains(x.text, "start") {
+			files = append(files, start("B new go"))
+		}
+		for _, o := range []Options{{}, {Ticks: upTo(60), Collects: upTo(120)}} {
+			m := machineOf(t, 60000, o, files...)
+			if end := m.Run(3000); end != x.end || lines(m.Events()) != x.want {
+				t.Errorf("P24.1: %s: %s, %s; want %s", x.text, lines(m.Events()), names[end], x.want)
+			}
+			m.check(t, x.text)
+		}
+	}
+}
+
 // 91: the snapshot is the memory, where only the answer is another one.
 func TestImage(t *testing.T) {
 	m := machineOf(t, 30000, Options{}, start("Array new: 9. (self save ifTrue: ['again'] ifFalse: ['first']) out. self save ifTrue: ['second' out]"))

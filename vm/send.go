@@ -11,22 +11,24 @@ import (
 	"foundling/step"
 )
 
-// message: a name, and the receiver with the arguments.
+// message: a name, the receiver with the arguments, and the class where the method is asked for. (That of a Super isn't the receiver's own: the same words there mean another method.)
 type message struct {
-	name api.Word
-	list []api.Word
+	name  api.Word
+	list  []api.Word
+	class api.Word
 }
 
-func (x message) isSame(y message) bool { return x.name == y.name && slices.Equal(x.list, y.list) }
+func (x message) isSame(y message) bool {
+	return x.name == y.name && slices.Equal(x.list, y.list) && x.class == y.class
+}
 
 // sends: what the instruction asks for, and counts it. A message that is asked for again by what it asks for comes to no end: then it is as if the instruction, which stands before, had not been met yet, so that steps go on for ever, and each ends.
 func (m *machine) sends(a step.Action, before api.Word) {
-	x := message{a.Word, m.taken(a.Args + 1)}
-	class := m.classOf(x.list[0])
+	x := m.toOwn(a.Word, m.taken(a.Args+1))
 	if a.Kind == step.Supers {
-		class = m.above()
+		x.class = m.above()
 	}
-	if !m.send(class, x) {
+	if !m.send(x) {
 		m.frame().SetWord(boot.Pc, before)
 		for _, w := range x.list {
 			m.push(w)
@@ -36,6 +38,11 @@ func (m *machine) sends(a step.Action, before api.Word) {
 	if m.end == Running || m.end == Quit {
 		m.tally()
 	}
+}
+
+// toOwn: a message whose method is asked for in the receiver's own class.
+func (m *machine) toOwn(name api.Word, list []api.Word) message {
+	return message{name, list, m.classOf(list[0])}
 }
 
 // taken: the last words of the stack, of which it is known that there are as many.
@@ -55,11 +62,11 @@ func (m *machine) above() api.Word {
 	return m.word(m.word(method, holderAt), sound.Super)
 }
 
-// send: a message, whose method is looked for from a class on; then, as long as that is a primitive that asks for another message, that one. False: it comes back to one that it has sent. (What is kept in mind is the first one, the second, the fourth, and so on: as the memory stays as it is, it is enough to meet one of them again.)
-func (m *machine) send(class api.Word, x message) bool {
+// send: a message; then, as long as that is a primitive that asks for another message, that one. False: it comes back to one that it has sent. (What is kept in mind is the first one, the second, the fourth, and so on: as the memory stays as it is, it is enough to meet one of them again.)
+func (m *machine) send(x message) bool {
 	met, next := x, 1
 	for sent := 1; ; sent++ {
-		c := m.understood(class, x)
+		c := m.understood(x)
 		if c == nil {
 			return true
 		}
@@ -77,13 +84,12 @@ func (m *machine) send(class api.Word, x message) bool {
 		if sent == next {
 			met, next = x, 2*next
 		}
-		class = m.classOf(x.list[0])
 	}
 }
 
 // understood: the call of the method that a message means, or of doesNotUnderstand: in its stead; none, if that isn't there either, and the process is over.
-func (m *machine) understood(class api.Word, x message) *call {
-	if method, isThere := m.find(class, x.name); isThere {
+func (m *machine) understood(x message) *call {
+	if method, isThere := m.find(x.class, x.name); isThere {
 		return &call{machine: m, method: method, list: x.list}
 	}
 	method, isThere := m.find(m.classOf(x.list[0]), m.special(sound.Lacks))
